@@ -1,0 +1,1 @@
+"""Twomarks: goods ordered by two marks."""
