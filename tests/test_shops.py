@@ -2,7 +2,7 @@ import unittest
 
 from things import NO_WHOLES, OTHERS, assert_truth, assert_whole, put, told_unchanged
 from twomarks.shops import (
-    day_cost, end_cost, is_day, is_falls, is_shop, next_stock, order_cost, stocks,
+    day_cost, end_cost, greatest_seen, is_day, is_falls, is_level, is_shop, next_stock, order_cost, stocks,
 )
 
 GREAT = 10 ** 200 - 1
@@ -169,6 +169,27 @@ class Stocks(unittest.TestCase):
                     self.assertIs(type(told), tuple)
                     self.assertTrue(all([type(stock) is int for stock in told]))
                     self.assertEqual(list(told), [at - depth for at in range(top + depth + 1)])
+
+
+class IsLevel(unittest.TestCase):
+    def test_from_the_stock_to_top(self):
+        for shop in SHOPS:
+            for stock in stocks(shop):
+                for level in tuple(range(-45, 45)) + (GREAT, -GREAT):
+                    assert_truth(self, is_level(shop, stock, level), stock <= level <= shop[0])
+
+    def test_other_things(self):
+        for thing in NO_WHOLES:
+            with self.subTest(repr(thing)):
+                assert_truth(self, told_unchanged(self, is_level, SHOP, -3, thing), False)
+
+
+class GreatestSeen(unittest.TestCase):
+    def test_written_days(self):
+        for day, fall in (((1,), 0), ((1, 0), 0), ((0, 1), 1), ((5, 2, 0, 0), 1), ((0, 0, 0, 0, 0, 0, 0, 9), 7),
+                          ((1, 0, 3, 0), 2), ((1000,) * 8, 7)):
+            with self.subTest(day):
+                assert_whole(self, told_unchanged(self, greatest_seen, day), fall)
 
 
 class OrderCost(unittest.TestCase):

@@ -52,6 +52,16 @@ def stocks(shop):
     return tuple(range(-shop[DEPTH], shop[TOP] + 1))
 
 
+def is_level(shop, stock, thing):
+    """Whether whatever thing is a level for the stock."""
+    return is_whole_within(thing, stock, shop[TOP])
+
+
+def greatest_seen(day):
+    """The greatest fall of the day that is seen."""
+    return max([fall for fall, weight in enumerate(day) if weight > 0])
+
+
 def order_cost(shop, stock, level):
     """What it costs to come from the stock to the level; no order costs nothing."""
     if level <= stock:
