@@ -22,13 +22,13 @@ def holds_for(by_level, start, u, v, w):
     return outer >= (w - u) * by_level[v]
 
 
-def bent(shop, falls, t, first):
-    """None, or the first (u, v, w) from the stock first on for which the bend isn't."""
+def bent(shop, falls, t, least):
+    """None, or the first (u, v, w) from the stock least on for which the bend isn't."""
     by_level, scale = day_sums(shop, falls, t)
     start = scale * shop[START]
     depth = shop[DEPTH]
     end = shop[TOP] + depth + 1
-    for u in range(first + depth, end):
+    for u in range(least + depth, end):
         for v in range(u + 1, end):
             for w in range(v + 1, end):
                 if not holds_for(by_level, start, u, v, w):

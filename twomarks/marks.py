@@ -11,26 +11,26 @@ def is_cheapest(shop, by_level, scale, stock, level):
     return cost <= by_level[at] and by_level[level + shop[DEPTH]] == min(by_level[at + 1:])
 
 
-def marks_by(shop, by_level, scale, first):
-    """What the marks are from the stock first on, by the sums of the levels times scale."""
+def marks_by(shop, by_level, scale, least):
+    """What the marks are from the stock least on, by the sums of the levels times scale."""
     # The table's levels are the least of the cheapest, so a stock must order where its level is above it.
     picks = cheapest(shop, by_level, scale)
     lesser = shop[TOP]
-    while lesser > first and picks[lesser - 1 + shop[DEPTH]][1] == lesser - 1:
+    while lesser > least and picks[lesser - 1 + shop[DEPTH]][1] == lesser - 1:
         lesser -= 1
-    if lesser == first:
-        return ("marks", first, first)
+    if lesser == least:
+        return ("marks", least, least)
     greater = picks[lesser - 1 + shop[DEPTH]][1]
-    for stock in reversed(range(first, lesser - 1)):
+    for stock in reversed(range(least, lesser - 1)):
         if not is_cheapest(shop, by_level, scale, stock, greater):
             return ("none", stock, lesser - 1)
     return ("marks", lesser, greater)
 
 
-def marks(shop, falls, t, first):
-    """The marks on day t, from the stock first on."""
+def marks(shop, falls, t, least):
+    """The marks on day t, from the stock least on."""
     by_level, scale = day_sums(shop, falls, t)
-    return marks_by(shop, by_level, scale, first)
+    return marks_by(shop, by_level, scale, least)
 
 
 def level_by(pair, stock):
