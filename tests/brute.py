@@ -189,6 +189,34 @@ def solved_by_hand(rows):
     return [row[-1] for row in rows]
 
 
+def worths_by_hand(shop, day, levels):
+    """The mean and the worths, the least stock's 0, that meet the equations of the levels."""
+    rows = []
+    for at, (stock, level) in enumerate(zip(all_stocks(shop), levels)):
+        # The mean has the place of the least stock's worth.
+        row = [Fraction(0)] * len(levels)
+        row[at] += 1
+        cost = Fraction(ordered(shop, stock, level))
+        for fall, likely in chances(day):
+            after, paid = fallen(shop, level, fall)
+            row[after + shop[1]] -= likely
+            cost += likely * paid
+        rows.append([Fraction(1)] + row[1:] + [cost])
+    mean, *worths = solved_by_hand(rows)
+    return mean, [Fraction(0)] + worths
+
+
+def looking_back(seed, top):
+    """A choice of levels by all that was before, for cost_by_rows."""
+    def choose(t, stock, past):
+        mixed = seed + t
+        for day in past:
+            for number in day:
+                mixed = mixed * 1009 + number
+        return Dice(mixed * 101 + stock).throw(stock, top)
+    return choose
+
+
 def costs_by_worths(shop, day, worths, stock):
     """What each level costs from the stock, the next stock's worth with it."""
     told = {}
@@ -207,3 +235,122 @@ def thrown_lasting(dice, reach, price):
     day = day[:dice.throw(shop[0] + shop[1] + 1, 8)]
     day[dice.throw(shop[0] + shop[1], len(day) - 1)] = dice.throw(1, 1000)
     return shop, tuple(day)
+
+
+@lru_cache(maxsize=None)
+def late_cost(shop, falls, lag, t, stock, way):
+    """The least cost from the morning of day t on; way has what comes on this morning and on each one behind it.
+
+    Each level is tried, and nothing is taken for granted of what lies there.
+    """
+    if t == len(falls):
+        assert not any(way)
+        return Fraction(ended(shop, stock))
+    return min(late_costs(shop, falls, lag, t, stock, way).values())
+
+
+def late_costs(shop, falls, lag, t, stock, way):
+    """What each level costs on day t, the stock and what is under way being so on its morning."""
+    here, under_way = stock + way[0], way[1:]
+    counted = here + sum(under_way)
+    levels = range(counted, shop[0] + 1) if t < len(falls) - lag else (counted,)
+    told = {}
+    for level in levels:
+        told[level] = Fraction(ordered(shop, counted, level))
+        for fall, likely in chances(falls[t]):
+            after, paid = fallen(shop, here, fall)
+            told[level] += likely * (paid + late_cost(shop, falls, lag, t + 1, after, under_way + (level - counted,)))
+    return told
+
+
+def late_cost_by(shop, falls, lag, stock, choose):
+    """What it costs to order by choose(t, counted), row by row of falls."""
+    total = Fraction(0)
+    for row in product(*[chances(day) for day in falls]):
+        chance, paid, now, comes = Fraction(1), 0, stock, [0] * (len(falls) + lag)
+        for t, (fall, likely) in enumerate(row):
+            now += comes[t]
+            if t < len(falls) - lag:
+                counted = now + sum(comes[t + 1:])
+                level = choose(t, counted)
+                paid += ordered(shop, counted, level)
+                comes[t + lag] = level - counted
+            now, cost = fallen(shop, now, fall)
+            paid += cost
+            chance *= likely
+        total += chance * (paid + ended(shop, now))
+    return total
+
+
+def thrown_free_stock(dice, reach, price, days, most):
+    """A shop, falls of more than one day, and a stock that is free on day 0."""
+    while True:
+        shop = thrown_shop(dice, reach, price)
+        falls = tuple([thrown_day(dice, most) for _ in range(dice.throw(2, days))])
+        first = free_by_hand(shop, falls, 0)
+        if first <= shop[0]:
+            return shop, falls, dice.throw(max(first, -shop[1]), shop[0])
+
+
+def all_stands(shop):
+    return list(product(all_stocks(shop), all_stocks(shop)))
+
+
+def all_raises(shop, stand):
+    return list(product(*[range(stock, shop[0] + 1) for stock in stand]))
+
+
+def raise_by_hand(shop, stand, raised):
+    """The order's cost, each piece taken by itself."""
+    pieces = sum([len(range(stock, level)) for stock, level in zip(stand, raised)])
+    return (shop[2] if tuple(stand) != tuple(raised) else 0) + shop[3] * pieces
+
+
+def double_chances(day):
+    total = sum([sum(line) for line in day])
+    return [((i, j), Fraction(weight, total)) for i, line in enumerate(day) for j, weight in enumerate(line) if weight]
+
+
+@lru_cache(maxsize=None)
+def double_cost(shop, double, t, stand):
+    if t == len(double):
+        return Fraction(sum([ended(shop, stock) for stock in stand]))
+    return min(double_costs(shop, double, t, stand).values())
+
+
+@lru_cache(maxsize=None)
+def behind_raise(shop, double, t, raised):
+    """What the raise costs from the falls of day t on."""
+    total = Fraction(0)
+    for both, likely in double_chances(double[t]):
+        one, other = [fallen(shop, level, fall) for level, fall in zip(raised, both)]
+        total += likely * (one[1] + other[1] + double_cost(shop, double, t + 1, (one[0], other[0])))
+    return total
+
+
+def double_costs(shop, double, t, stand):
+    """What each raise costs from the stand on day t."""
+    return {raised: raise_by_hand(shop, stand, raised) + behind_raise(shop, double, t, raised)
+            for raised in all_raises(shop, stand)}
+
+
+def cheapest_raises(shop, double, t, stand):
+    costs = double_costs(shop, double, t, stand)
+    return [raised for raised in costs if costs[raised] == min(costs.values())]
+
+
+def double_by_hand(shop, double):
+    return tuple([tuple([(as_share(double_cost(shop, double, t, stand)), min(cheapest_raises(shop, double, t, stand)))
+                         for stand in all_stands(shop)]) for t in range(len(double))])
+
+
+def thrown_double_day(dice, most):
+    rows, columns = dice.throw(1, most), dice.throw(1, most)
+    day = [[dice.pick((0, 1, dice.throw(0, 9), dice.throw(0, 1000))) for _ in range(columns)] for _ in range(rows)]
+    if not any([any(line) for line in day]):
+        day[dice.throw(0, rows - 1)][dice.throw(0, columns - 1)] = dice.throw(1, 1000)
+    return tuple([tuple(line) for line in day])
+
+
+def thrown_double(dice, days):
+    return tuple([thrown_double_day(dice, 3) for _ in range(dice.throw(1, days))])

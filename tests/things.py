@@ -2,6 +2,11 @@
 
 import copy
 
+from twomarks import errors
+
+REFUSALS = (errors.NoShare, errors.NoMean, errors.NoStand, errors.NoText, errors.NoRow, errors.NoLevel, errors.NoFall,
+            errors.NoBack)
+
 
 def nested(kind, depth):
     thing = kind()
@@ -51,3 +56,22 @@ def assert_truth(case, told, wanted):
 def assert_whole(case, told, wanted):
     case.assertIs(type(told), int)
     case.assertEqual(told, wanted)
+
+
+def assert_share(case, told, wanted):
+    """Just this share, a tuple of two ints."""
+    case.assertIs(type(told), tuple)
+    case.assertEqual([type(part) for part in told], [int, int])
+    case.assertEqual(told, wanted)
+
+
+def assert_refused(case, error, deed, *handed):
+    """Refused with just this class of error, and nothing handed in is changed."""
+    kept = repr(handed)
+    with case.assertRaises(errors.ShopError) as caught:
+        deed(*handed)
+    case.assertIs(type(caught.exception), error)
+    case.assertIsInstance(caught.exception, ValueError)
+    for other in REFUSALS:
+        case.assertEqual(isinstance(caught.exception, other), other is error)
+    case.assertEqual(repr(handed), kept)

@@ -11,21 +11,26 @@ def level_sums(shop, day, ahead, scale):
     return [own_scale * shop[PIECE] * level + weighed(shop, day, level, ahead, scale) for level in stocks(shop)]
 
 
-def cheapest(shop, by_level, scale):
-    """For each stock the least cost, times scale, and the least level that has it.
+def cheapest_from(shop, low, by_level, scale):
+    """For each stock from low on the least cost, times scale, and the least level that has it.
 
-    by_level has the sums of the levels, times scale.
+    by_level has the sums of the levels from low on, times scale.
     """
     picks = []
     # Pairs compare by their sums first, so of levels that cost alike the least one is taken.
     best = (by_level[-1], shop[TOP])
-    for stock in reversed(stocks(shop)):
-        own = (by_level[stock + shop[DEPTH]], stock)
+    for stock in reversed(range(low, shop[TOP] + 1)):
+        own = (by_level[stock - low], stock)
         cost, level = min(own, (scale * shop[START] + best[0], best[1]))
         picks.append((cost - scale * shop[PIECE] * stock, level))
         best = min(own, best)
     picks.reverse()
     return picks
+
+
+def cheapest(shop, by_level, scale):
+    """For each stock the least cost, times scale, and the least level that has it, by the sums times scale."""
+    return cheapest_from(shop, -shop[DEPTH], by_level, scale)
 
 
 def least(shop, falls):
